@@ -23,7 +23,7 @@ func samePieces(a [][]byte, b [][]byte) bool {
 		return false
 	}
 	for k := range a {
-		if !bytes.Equal(a[k], b[k]) {
+		if !bytes.Equal(a[k], b[k]) || (a[k] == nil) != (b[k] == nil) {
 			return false
 		}
 	}
@@ -33,7 +33,7 @@ func samePieces(a [][]byte, b [][]byte) bool {
 func copyPieces(pieces [][]byte) [][]byte {
 	var copied [][]byte
 	for _, p := range pieces {
-		copied = append(copied, append([]byte{}, p...))
+		copied = append(copied, bytes.Clone(p))
 	}
 	return copied
 }

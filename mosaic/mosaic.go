@@ -22,10 +22,10 @@ func Mul(a int, b int) int {
 func Cut(value []byte) ([][]byte, api.Errno) { return piece.Cut(value) }
 
 // Mend tells all pieces, of ten or more (P5).
-func Mend(pieces [][]byte) ([][]byte, api.Errno) { return nil, api.OK }
+func Mend(pieces [][]byte) ([][]byte, api.Errno) { return piece.Mend(pieces) }
 
 // Join tells a value of its pieces (P6).
-func Join(pieces [][]byte, n int) ([]byte, api.Errno) { return nil, api.OK }
+func Join(pieces [][]byte, n int) ([]byte, api.Errno) { return piece.Join(pieces, n) }
 
 // Mount makes a store of disks (P7).
 func Mount(disks []string, writes int) (*Store, api.Errno) { return nil, api.OK }

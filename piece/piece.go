@@ -1,4 +1,4 @@
-// Package piece cuts values into rows and reckons pieces of other pieces.
+// Package piece cuts values into pieces, reckons pieces of other pieces, and joins values of them.
 package piece
 
 import (
@@ -22,6 +22,75 @@ func Cut(value []byte) ([][]byte, api.Errno) {
 	}
 	fillLacking(all, known, length)
 	return all, api.OK
+}
+
+// Mend tells all fourteen pieces, as the first ten of those that are there (which are not nil) settle them.
+func Mend(pieces [][]byte) ([][]byte, api.Errno) {
+	if len(pieces) != api.Pieces {
+		return nil, api.ErrArg
+	}
+	length, same := oneLength(pieces)
+	if !same || length > api.MaxValue {
+		return nil, api.ErrArg
+	}
+	known, enough := firstTen(pieces)
+	if !enough {
+		return nil, api.ErrFew
+	}
+	// What is there beyond the first ten is left out here, and so reckoned with what is lacking.
+	all := make([][]byte, api.Pieces)
+	for _, k := range known {
+		own := make([]byte, length)
+		copy(own, pieces[k])
+		all[k] = own
+	}
+	fillLacking(all, known, length)
+	return all, api.OK
+}
+
+// Join tells the first n bytes of the ten rows, one behind the other.
+func Join(pieces [][]byte, n int) ([]byte, api.Errno) {
+	all, e := Mend(pieces)
+	if e != api.OK {
+		return nil, e
+	}
+	if n < 0 || n > api.Data*len(all[0]) {
+		return nil, api.ErrArg
+	}
+	value := make([]byte, n)
+	filled := 0
+	for _, source := range all[:api.Data] {
+		filled += copy(value[filled:], source)
+	}
+	return value, api.OK
+}
+
+// oneLength tells the length of the pieces that are there (0, if none is), and whether they all have it.
+func oneLength(pieces [][]byte) (int, bool) {
+	length, met := 0, false
+	for _, p := range pieces {
+		if p == nil {
+			continue
+		}
+		if met && len(p) != length {
+			return 0, false
+		}
+		length, met = len(p), true
+	}
+	return length, true
+}
+
+// firstTen tells the numbers of the first ten pieces that are there, and whether there are so many.
+func firstTen(pieces [][]byte) ([api.Data]int, bool) {
+	var known [api.Data]int
+	count := 0
+	for k, p := range pieces {
+		if p != nil && count < api.Data {
+			known[count] = k
+			count++
+		}
+	}
+	return known, count == api.Data
 }
 
 func rowLength(size int) int {
