@@ -13,7 +13,7 @@ func Cut(value []byte) ([][]byte, api.Errno) {
 	if len(value) > api.MaxValue {
 		return nil, api.ErrArg
 	}
-	length := rowLength(len(value))
+	length := RowLength(len(value))
 	all := make([][]byte, api.Pieces)
 	var known [api.Data]int
 	for k := range known {
@@ -93,7 +93,8 @@ func firstTen(pieces [][]byte) ([api.Data]int, bool) {
 	return known, count == api.Data
 }
 
-func rowLength(size int) int {
+// RowLength tells the length of the rows, and so of the pieces, of a value of this size.
+func RowLength(size int) int {
 	return (size + api.Data - 1) / api.Data
 }
 

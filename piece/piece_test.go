@@ -10,8 +10,8 @@ import (
 
 func TestRowLengthIsATenthRoundedUp(t *testing.T) {
 	for _, c := range [][2]int{{0, 0}, {1, 1}, {9, 1}, {10, 1}, {11, 2}, {20, 2}, {21, 3}, {391, 40}, {399, 40}, {400, 40}} {
-		if got := rowLength(c[0]); got != c[1] {
-			t.Errorf("P4: rowLength(%d) = %d, want %d", c[0], got, c[1])
+		if got := RowLength(c[0]); got != c[1] {
+			t.Errorf("P4: RowLength(%d) = %d, want %d", c[0], got, c[1])
 		}
 	}
 }
