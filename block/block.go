@@ -50,9 +50,6 @@ func Seal(p Piece) Block {
 
 // Open tells the piece that is in a block, and panics, if there is none: if it is blank, or damaged, or was never sealed.
 func Open(b Block) Piece {
-	if b == (Block{}) || rest(b[:]) != 0 {
-		panic(errNone)
-	}
 	label := Label{
 		Id:   int(number(b[idAt:sizeAt])),
 		Size: int(number(b[sizeAt:numberAt])),
@@ -63,6 +60,9 @@ func Open(b Block) Piece {
 		panic(errNone)
 	}
 	p.Bytes = append([]byte{}, b[bytesAt:bytesAt+piece.RowLength(label.Size)]...)
+	if Seal(p) != b {
+		panic(errNone)
+	}
 	return p
 }
 

@@ -62,6 +62,10 @@ func TestOpenPanicsAtWhatIsNone(t *testing.T) {
 		"number":       Seal(Piece{Label: Label{Id: 1, Size: 3, Turn: 1}, Number: api.Pieces, Bytes: []byte{1}}),
 		"number again": Seal(Piece{Label: Label{Id: 1, Size: 3, Turn: 1}, Number: 255, Bytes: []byte{1}}),
 	}
+	tail := Seal(Piece{Label: Label{Id: 1, Size: 3, Turn: 1}, Bytes: []byte{1}})
+	tail[bytesAt+1] = 5
+	putNumber(tail[restAt:], uint64(rest(tail[:restAt])))
+	bad["bytes behind the piece"] = tail
 	for _, b := range []byte{1, 'x', 0xff} {
 		bad["all "+string(b)] = Block(bytes.Repeat([]byte{b}, api.BlockSize))
 	}

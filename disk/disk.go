@@ -38,12 +38,12 @@ func (s *Disks) Read(disk int, place int) (found block.Piece, ok bool) {
 	return block.Open(s.believed[disk][place]), true
 }
 
-// IsBlank tells whether a block of a disk is blank.
-func (s *Disks) IsBlank(disk int, place int) bool {
-	return s.believed[disk][place] == block.Block{}
+// Holds tells whether a block of a disk is this one.
+func (s *Disks) Holds(disk int, place int, b block.Block) bool {
+	return s.believed[disk][place] == b
 }
 
-// Write writes a block of a disk; whether that is lost can't be told from what Read and IsBlank tell.
+// Write writes a block of a disk; whether that is lost can't be told from what Read and Holds tell.
 func (s *Disks) Write(disk int, place int, b block.Block) {
 	s.believed[disk][place] = b
 	if s.left > 0 {

@@ -72,8 +72,8 @@ func TestLostDisksAreBlank(t *testing.T) {
 			t.Errorf("P7: disk %d: %q", d, text)
 		}
 		for place := range 4 {
-			if s.IsBlank(d, place) != (list[d] == "") {
-				t.Errorf("P7: disk %d, block %d: blank: %v", d, place, s.IsBlank(d, place))
+			if blank := s.Holds(d, place, block.Block{}); blank != (list[d] == "") {
+				t.Errorf("P7: disk %d, block %d: blank: %v", d, place, blank)
 			}
 		}
 	}
@@ -94,7 +94,7 @@ func TestWritesBehindTheLastAreLost(t *testing.T) {
 			if got := text[3*api.BlockSize : 4*api.BlockSize]; got != want {
 				t.Errorf("P7: %d writes: disk %d: %q, want %q", writes, d, got, want)
 			}
-			if p, ok := s.Read(d, 3); !ok || p.Number != d || s.IsBlank(d, 3) {
+			if p, ok := s.Read(d, 3); !ok || p.Number != d || !s.Holds(d, 3, aBlock(d)) || s.Holds(d, 3, block.Block{}) {
 				t.Errorf("P7: %d writes: the disks come to know of it: disk %d: %v, %v", writes, d, p, ok)
 			}
 		}
@@ -119,7 +119,7 @@ func TestDisksShareNothing(t *testing.T) {
 	first, second := mustNew(t, list, 9), mustNew(t, list, 9)
 	list[0] = "other"
 	first.Write(0, 0, aBlock(0))
-	if told := first.Texts(); !second.IsBlank(0, 0) || !first.IsBlank(1, 0) || !slices.Equal(second.Texts(), texts(14, 4, "\x00")) {
+	if told := first.Texts(); !second.Holds(0, 0, block.Block{}) || !first.Holds(1, 0, block.Block{}) || !slices.Equal(second.Texts(), texts(14, 4, "\x00")) {
 		t.Errorf("P2: a block that is written shows elsewhere: %q", told)
 	} else {
 		told[0] = "other"

@@ -1,7 +1,6 @@
 package mosaic
 
 import (
-	"bytes"
 	"maps"
 	"math"
 	"math/rand"
@@ -11,18 +10,28 @@ import (
 	"mosaic/api"
 )
 
-// change is a Put, or, without a value, a Delete.
+// change is a Put, or, without a value, a Delete, or, without an id, a Scrub.
 type change struct {
 	id    int
 	value []byte
 }
 
 func (c change) do(s *Store) {
-	if c.value == nil {
+	switch {
+	case c.id == 0:
+		s.Scrub(math.MaxInt)
+	case c.value == nil:
 		s.Delete(c.id)
-	} else {
+	default:
 		s.Put(c.id, c.value)
 	}
+}
+
+func doAll(s *Store, changes []change) *Store {
+	for _, c := range changes {
+		c.do(s)
+	}
+	return s
 }
 
 // after tells the values as they are when these changes are done.
@@ -38,20 +47,14 @@ func after(values map[int][]byte, changes []change) map[int][]byte {
 	return values
 }
 
-// written tells how many blocks a store of these disks writes for these changes.
+// written tells how many blocks a store of these disks writes: by Mount, and for these changes.
 func written(t *testing.T, disks []string, changes []change) int {
 	t.Helper()
-	do := func(writes int) []string {
-		s := mustMount(t, disks, writes)
-		for _, c := range changes {
-			c.do(s)
-		}
-		return s.Disks()
-	}
-	all, low, high := do(math.MaxInt), 0, 1<<12
+	all := doAll(mustMount(t, disks, math.MaxInt), changes).Disks()
+	low, high := 0, 1<<12
 	for low < high {
 		middle := (low + high) / 2
-		if slices.Equal(do(middle), all) {
+		if slices.Equal(doAll(mustMount(t, disks, middle), changes).Disks(), all) {
 			high = middle
 		} else {
 			low = middle + 1
@@ -69,37 +72,123 @@ func someChange(r *rand.Rand, ids int) change {
 	return c
 }
 
-// TestLeftInTheMidst: whichever write is the first that is lost, each value is there as a whole, and what comes behind
-// that is as if it had not been; however often a store is left.
-func TestLeftInTheMidst(t *testing.T) {
+// mayHold tells what values there may be when a store whose calls end at these numbers of writes is left: those behind
+// the last call whose writes were all written, and, if the first lost write was of a call, those behind that one.
+func mayHold(values map[int][]byte, changes []change, ends []int, writes int) []map[int][]byte {
+	done := 0
+	for done < len(changes) && ends[done+1] <= writes {
+		done++
+	}
+	may := []map[int][]byte{after(values, changes[:done])}
+	if done < len(changes) && ends[done] <= writes {
+		may = append(may, after(values, changes[:done+1]))
+	}
+	return may
+}
+
+// whichHolds tells which of these values a store holds.
+func whichHolds(t *testing.T, s *Store, may []map[int][]byte) map[int][]byte {
+	t.Helper()
+	for _, values := range may {
+		if otherThan(s, values) == "" {
+			return values
+		}
+	}
+	t.Fatalf("P11: %v, want one of %d others", s.List(), len(may))
+	return nil
+}
+
+// mustBearAgain: behind a Scrub without lost writes nothing is bad, and damage is borne.
+func mustBearAgain(t *testing.T, r *rand.Rand, disks []string, values map[int][]byte) {
+	t.Helper()
+	s := mustMount(t, disks, math.MaxInt)
+	mustHold(t, s, values)
+	if left := s.Scrub(math.MaxInt); left != 0 || totalBad(s) != 0 {
+		t.Fatalf("P10: Scrub leaves %d: %v", left, s.List())
+	}
+	for range 2 {
+		mustHold(t, mustMount(t, damage(r, s.Disks()), 0), values)
+	}
+	s = mustMount(t, s.Disks(), math.MaxInt)
+	if bad := totalBad(s); bad != 0 {
+		t.Fatalf("P10: %d are bad when mounted anew", bad)
+	}
+	for id := range values {
+		mustDelete(t, s, id)
+	}
+	for k, text := range s.Disks()[:api.Pieces] {
+		if text != blankDisks(1, len(text)/api.BlockSize)[0] {
+			t.Fatalf("P11: all values are gone, but disk %d is not blank", k)
+		}
+	}
+}
+
+// TestLeftAtEachWrite: whichever write is the first that is lost, of Mount, Put, Delete or Scrub, each value is there as a
+// whole, and what comes behind that is as if it had not been.
+func TestLeftAtEachWrite(t *testing.T) {
+	t.Parallel()
+	r := rand.New(rand.NewSource(8))
+	stored, values := filled(t, blankDisks(14, 5))
+	changes := []change{{id: 1, value: []byte("anew")}, {id: 1}, {}, {id: 7, value: someBytes(400, 7)}, {id: 6, value: []byte{}}}
+	for name, disks := range map[string][]string{
+		"whole":            stored.Disks(),
+		"a disk lost":      lose(stored.Disks(), 3),
+		"four disks lost":  lose(stored.Disks(), 0, 5, 11, 13),
+		"bits turned":      turnFour(stored.Disks()),
+		"left in a Put":    doAll(mustMount(t, stored.Disks(), 11), changes[:1]).Disks(),
+		"left behind that": doAll(mustMount(t, stored.Disks(), 16), changes[:1]).Disks(),
+		"left in a Delete": doAll(mustMount(t, stored.Disks(), 5), changes[1:2]).Disks(),
+	} {
+		start := map[int][]byte{}
+		for _, h := range mustMount(t, disks, 0).List() {
+			start[h.Id] = values[h.Id]
+		}
+		if name == "left in a Put" || name == "left behind that" {
+			start[1] = []byte("anew")
+		}
+		var ends []int
+		for k := range len(changes) + 1 {
+			ends = append(ends, written(t, disks, changes[:k]))
+		}
+		for writes := range ends[len(changes)] + 2 {
+			s := doAll(mustMount(t, disks, writes), changes)
+			mustHold(t, s, after(start, changes))
+			left := mustMount(t, s.Disks(), 0)
+			held := whichHolds(t, left, mayHold(start, changes, ends, writes))
+			for range r.Intn(3) {
+				left = mustMount(t, left.Disks(), r.Intn(9))
+				left.Scrub(r.Intn(9))
+				mustHold(t, left, held)
+			}
+			mustBearAgain(t, r, left.Disks(), held)
+		}
+	}
+}
+
+// TestLeftAgainAndAgain: the same, by chance, each store left being the next one's start.
+func TestLeftAgainAndAgain(t *testing.T) {
+	t.Parallel()
 	r := rand.New(rand.NewSource(5))
-	for range 6 {
+	for range 8 {
 		disks, values := blankDisks(14+r.Intn(5), 6), map[int][]byte{}
 		for range 25 {
 			changes := []change{someChange(r, 4), someChange(r, 4), someChange(r, 4)}
+			changes[r.Intn(3)].id *= r.Intn(2)
+			for k, c := range changes {
+				if c.id == 0 {
+					changes[k].value = nil
+				}
+			}
 			var ends []int
 			for k := range len(changes) + 1 {
 				ends = append(ends, written(t, disks, changes[:k]))
 			}
 			writes := r.Intn(ends[3] + 1)
-			s := mustMount(t, disks, writes)
-			for _, c := range changes {
-				c.do(s)
-			}
+			s := doAll(mustMount(t, disks, writes), changes)
 			mustHold(t, s, after(values, changes))
-			done := 0
-			for done < 3 && ends[done+1] <= writes {
-				done++
-			}
-			left := mustMount(t, s.Disks(), math.MaxInt)
-			either := after(values, changes[:done])
-			if otherThan(left, either) != "" && done < 3 {
-				either = after(values, changes[:done+1])
-			}
-			if other := otherThan(left, either); other != "" {
-				t.Fatalf("P11: left after %d writes of %v: %s", writes, ends, other)
-			}
-			disks, values = s.Disks(), either
+			disks = s.Disks()
+			values = whichHolds(t, mustMount(t, disks, r.Intn(20)), mayHold(values, changes, ends, writes))
+			mustBearAgain(t, r, disks, values)
 		}
 	}
 }
@@ -139,104 +228,15 @@ func TestNothingElseStaysOnTheDisks(t *testing.T) {
 		disks := s.Disks()
 		disks[r.Intn(14)] = string(someBytes(8*api.BlockSize, r.Uint32()))
 		s = mustMount(t, disks, math.MaxInt)
-		for id := 1; id <= 6; id++ {
-			s.Put(id, []byte("anew"))
-			s.Delete(id)
-		}
-		for _, h := range s.List() {
-			mustPut(t, s, h.Id, []byte("anew"))
-		}
-		if full := changedBlocks(s.Disks(), blankDisks(14, 8)); full != 14*len(s.List()) {
-			t.Fatalf("P8: %d blocks are not blank, of %d values", full, len(s.List()))
-		}
-	}
-}
-
-// turnBits turns bits of a disk, from the one at start on: the lowest bit of bits is that one.
-func turnBits(disk string, start int, bits uint32) string {
-	all := []byte(disk)
-	for i := range 32 {
-		if at := start + i; bits>>i&1 == 1 && at < 8*len(all) {
-			all[at/8] ^= 1 << (at % 8)
-		}
-	}
-	return string(all)
-}
-
-// damage loses up to four disks, or turns up to 32 bits of them.
-func damage(r *rand.Rand, disks []string) []string {
-	damaged := slices.Clone(disks)
-	for _, d := range r.Perm(len(disks))[:r.Intn(5)] {
-		damaged[d] = ""
-		if r.Intn(3) > 0 {
-			damaged[d] = turnBits(disks[d], r.Intn(8*len(disks[d])), r.Uint32())
-		}
-	}
-	return damaged
-}
-
-func TestDamageOfFourDisks(t *testing.T) {
-	r := rand.New(rand.NewSource(6))
-	s, values := filled(t, blankDisks(15, 7))
-	for range 300 {
-		mounted := mustMount(t, damage(r, s.Disks()), math.MaxInt)
-		mustHold(t, mounted, values)
-		c := someChange(r, 5)
-		wanted := after(values, []change{c})
-		if len(wanted) > 5 {
-			continue
-		}
-		c.do(mounted)
-		mustHold(t, mounted, wanted)
-		mustHold(t, mustMount(t, mounted.Disks(), 0), wanted)
-	}
-}
-
-// TestDamageOfEachBit: wherever on a disk bits are turned, at the borders of blocks too.
-func TestDamageOfEachBit(t *testing.T) {
-	s, values := filled(t, blankDisks(14, 4))
-	whole := s.Disks()
-	for start := range 8 * len(whole[0]) {
-		disks := slices.Clone(whole)
-		for k, bits := range []uint32{1, math.MaxUint32, 1<<31 | 1, 0xa5a5a5a5} {
-			d := (start + 4*k) % 14
-			disks[d] = turnBits(disks[d], start, bits)
-		}
-		mounted := mustMount(t, disks, 0)
-		mustHold(t, mounted, values)
-		if bad := totalBad(mounted); bad > 8 {
-			t.Fatalf("P8: bits turned from %d: %d pieces are bad", start, bad)
-		}
-	}
-}
-
-// TestBitsTurnedBack: a value that is gone stays so when damage of its pieces is turned back, wherever the Delete was left.
-func TestBitsTurnedBack(t *testing.T) {
-	s := mustMount(t, blankDisks(14, 4), math.MaxInt)
-	mustPut(t, s, 1, []byte("first"))
-	mustPut(t, s, 1, []byte("second"))
-	mustPut(t, s, 2, []byte("other"))
-	turnFour := func(disks []string) []string {
-		turned := slices.Clone(disks)
-		for _, d := range []int{1, 4, 9, 13} {
-			for block := range 4 {
-				turned[d] = turnBits(turned[d], 8*api.BlockSize*block+100, 0x80000401)
+		for range 2 {
+			s.Scrub(math.MaxInt)
+			if full := changedBlocks(s.Disks(), blankDisks(14, 8)); full != 14*len(s.List()) {
+				t.Fatalf("P8: %d blocks are not blank, of %d values", full, len(s.List()))
 			}
-		}
-		return turned
-	}
-	damaged := turnFour(s.Disks())
-	for writes := range 30 {
-		left := mustMount(t, damaged, writes)
-		mustDelete(t, left, 1)
-		again := mustMount(t, left.Disks(), 0)
-		_, e := again.Get(1)
-		back := mustMount(t, turnFour(again.Disks()), 0)
-		if got, f := back.Get(1); e == api.ErrNone && f != e {
-			t.Errorf("P9: Delete left after %d writes: what is gone is back: %q, %d", writes, got, f)
-		}
-		if got, e := back.Get(2); !bytes.Equal(got, []byte("other")) || e != api.OK {
-			t.Errorf("P9: Delete left after %d writes: the other value: %q, %d", writes, got, e)
+			for id := 1; id <= 6; id++ {
+				s.Put(id, []byte("anew"))
+				s.Delete(id)
+			}
 		}
 	}
 }

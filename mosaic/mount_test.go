@@ -149,6 +149,9 @@ func script(s *Store, steps int) []any {
 		default:
 			answers = append(answers, s.Put(id, someBytes(step*31%401, uint32(step))))
 		}
+		if step%4 == 1 {
+			answers = append(answers, s.Scrub(step%3))
+		}
 		value, e := s.Get(1 + step%7)
 		answers = append(answers, string(value), e, len(s.List()))
 		for _, h := range s.List() {
@@ -160,6 +163,7 @@ func script(s *Store, steps int) []any {
 
 // TestWritesAreLost: the first ones are written, one block each, and those behind are lost, of which no answer tells.
 func TestWritesAreLost(t *testing.T) {
+	t.Parallel()
 	stored, _ := filled(t, blankDisks(14, 6))
 	damaged := stored.Disks()
 	damaged[2] = ""

@@ -39,6 +39,7 @@ func Mount(disks []string, writes int) (*Store, api.Errno) {
 	for slot := range mounted.Blocks() {
 		s.survey(slot)
 	}
+	s.sweep()
 	return s, api.OK
 }
 
@@ -51,9 +52,11 @@ func (s *Store) Put(id int, value []byte) api.Errno {
 	if s.isFullFor(id) {
 		return api.ErrFull
 	}
-	s.sweep()
+	older, ok := s.values[id]
 	s.lay(id, len(value), pieces)
-	s.sweep()
+	if ok {
+		s.blank(older.slot, older.good)
+	}
 	return api.OK
 }
 
@@ -74,12 +77,12 @@ func (s *Store) Delete(id int) api.Errno {
 	if !isId(id) {
 		return api.ErrArg
 	}
-	if _, ok := s.values[id]; !ok {
+	v, ok := s.values[id]
+	if !ok {
 		return api.ErrNone
 	}
-	s.sweep()
 	delete(s.values, id)
-	s.sweep()
+	s.blank(v.slot, v.good)
 	return api.OK
 }
 
@@ -94,13 +97,37 @@ func (s *Store) List() []api.Health {
 }
 
 // Scrub makes bad pieces good again (P10).
-func (s *Store) Scrub(n int) int { return 0 }
+func (s *Store) Scrub(n int) int {
+	list := s.List()
+	left := 0
+	for _, h := range list {
+		left += h.Bad
+	}
+	for ; n > 0 && left > 0; n-- {
+		worst := mostBad(list)
+		s.makeGood(worst.Id)
+		worst.Bad--
+		left--
+	}
+	return left
+}
 
 // Disks tells the disks' bytes (P7).
 func (s *Store) Disks() []string { return s.disks.Texts() }
 
 func isId(id int) bool {
 	return id >= 1 && id <= api.MaxId
+}
+
+// mostBad tells the entry of a list that has the most bad pieces, the first of several.
+func mostBad(list []api.Health) *api.Health {
+	most := &list[0]
+	for i := range list {
+		if list[i].Bad > most.Bad {
+			most = &list[i]
+		}
+	}
+	return most
 }
 
 func (v kept) goodCount() int {
@@ -113,16 +140,31 @@ func (v kept) goodCount() int {
 	return count
 }
 
+// seal tells the block of a piece.
+func (v kept) seal(k int, bytes []byte) block.Block {
+	return block.Seal(block.Piece{Label: v.label, Number: k, Bytes: bytes})
+}
+
 // survey learns what value stands in a slot. If a store was left in the midst, pieces of others may stand there too; but
 // of one value at most there are ten of fourteen, so that the order in which they are gone through does not matter.
 func (s *Store) survey(slot int) {
 	for label, v := range s.piecesIn(slot) {
 		older, ok := s.values[label.Id]
 		if v.goodCount() >= api.Data && (!ok || older.label.Turn < label.Turn) {
-			s.values[label.Id] = v
+			s.values[label.Id] = s.agreeing(v)
 		}
 		s.turn = max(s.turn, label.Turn)
 	}
+}
+
+// agreeing tells v with just those pieces as good that are as the first ten settle them: else the value would be another
+// when one of these is lost.
+func (s *Store) agreeing(v kept) kept {
+	all, _ := piece.Mend(s.goodPieces(v))
+	for k, bytes := range all {
+		v.good[k] = s.disks.Holds(k, v.slot, v.seal(k, bytes))
+	}
+	return v
 }
 
 // piecesIn tells of which values there are pieces in a slot, and which.
@@ -149,32 +191,25 @@ func (s *Store) isFullFor(id int) bool {
 	return others >= s.disks.Blocks()-spare
 }
 
-// sweep blanks each slot in which no value stands. It goes ahead of each change, lest what an earlier store left there
-// comes to light when the value that hides it goes; and behind each, which is what takes the old value off the disks.
+// sweep blanks each slot in which no value stands. What an earlier store left there would come to light when the value
+// that hides it goes; and damage of a block that is blank can't make a piece of it, while damage upon damage can.
 func (s *Store) sweep() {
 	for slot, taken := range s.takenSlots() {
 		if !taken {
-			s.blank(slot)
+			s.blank(slot, [api.Pieces]bool{})
 		}
 	}
 }
 
-// blank takes what is in a slot off the disks. A value is there while ten of its pieces are: so it goes as a whole, at one
-// of these writes. Pieces that are damaged go first: if bits that were turned are turned back, they must not count again.
-func (s *Store) blank(slot int) {
-	var whole []int
-	for k := range api.Pieces {
-		if s.disks.IsBlank(k, slot) {
-			continue
+// blank takes what is in a slot off the disks, the good pieces of a value behind all else: as long as ten of these are
+// there the value is, as it was, so it goes as a whole, at one of these writes, and nothing is left then that may count again.
+func (s *Store) blank(slot int, good [api.Pieces]bool) {
+	for _, last := range []bool{false, true} {
+		for k := range api.Pieces {
+			if good[k] == last && !s.disks.Holds(k, slot, block.Block{}) {
+				s.disks.Write(k, slot, block.Block{})
+			}
 		}
-		if _, ok := s.disks.Read(k, slot); ok {
-			whole = append(whole, k)
-			continue
-		}
-		s.disks.Write(k, slot, block.Block{})
-	}
-	for _, k := range whole {
-		s.disks.Write(k, slot, block.Block{})
 	}
 }
 
@@ -192,9 +227,23 @@ func (s *Store) lay(id int, size int, pieces [][]byte) {
 	s.turn++
 	v := kept{label: block.Label{Id: id, Size: size, Turn: s.turn}, slot: slices.Index(s.takenSlots(), false)}
 	for k, bytes := range pieces {
-		s.disks.Write(k, v.slot, block.Seal(block.Piece{Label: v.label, Number: k, Bytes: bytes}))
-		v.good[k] = true
+		s.layPiece(&v, k, bytes)
 	}
+	s.values[id] = v
+}
+
+// layPiece writes a piece of a value into its slot.
+func (s *Store) layPiece(v *kept, k int, bytes []byte) {
+	s.disks.Write(k, v.slot, v.seal(k, bytes))
+	v.good[k] = true
+}
+
+// makeGood lays the first bad piece of a value anew, as the good ones settle it.
+func (s *Store) makeGood(id int) {
+	v := s.values[id]
+	all, _ := piece.Mend(s.goodPieces(v))
+	k := slices.Index(v.good[:], false)
+	s.layPiece(&v, k, all[k])
 	s.values[id] = v
 }
 
